@@ -69,3 +69,11 @@ def clear_all(board):
     board.chips = []
     board.paths = []
     return [0]
+
+
+def shift(board, c):
+    shifted = [Chip(chip.lo + c, chip.hi + c) for chip in board.chips]
+    if not all([are_bounds(chip.lo, chip.hi) for chip in shifted]):
+        return [OUT_OF_RANGE]
+    board.chips = shifted
+    return [0]

@@ -1,8 +1,8 @@
-"""The calls that ask and change nothing. Each gives back the numbers it answers."""
+"""The calls that list the board or look at rows of times. Each gives back its answer and changes nothing."""
 
 from clocktimes.refusals import OUT_OF_RANGE, WRONG_LENGTH
-from clocktimes.rules import hold_slack, missed_rules, setup_slack
-from clocktimes.state import is_period
+from clocktimes.rules import missed_rules, path_rules, rules_of, told_rules, what_is_left
+from clocktimes.state import fits, is_period
 
 
 def list_all(board):
@@ -18,7 +18,7 @@ def list_all(board):
 def refusal_of(board, period, times):
     if not is_period(period):
         return [OUT_OF_RANGE]
-    if len(times) != len(board.chips):
+    if not fits(board, times):
         return [WRONG_LENGTH]
     return []
 
@@ -27,19 +27,24 @@ def check(board, period, times):
     refusal = refusal_of(board, period, times)
     if refusal != []:
         return refusal
-    missed = missed_rules(board, period, times)
-    told = [len(missed)]
-    for rule in missed:
-        told.extend([rule[0], rule[1]])
-    return told
+    return told_rules(missed_rules(rules_of(board, period, 0), times))
 
 
 def slacks(board, period, times):
     refusal = refusal_of(board, period, times)
     if refusal != []:
         return refusal
-    told = [2 * len(board.paths)]
-    for path in board.paths:
-        told.append(setup_slack(board, path, period, times))
-        told.append(hold_slack(board, path, times))
-    return told
+    left = what_is_left(path_rules(board, period, 0), times)
+    return [len(left)] + left
+
+
+def sooner(board, one, other):
+    if not (fits(board, one) and fits(board, other)):
+        return [WRONG_LENGTH]
+    return [len(one)] + [min(first, second) for first, second in zip(one, other)]
+
+
+def later(board, one, other):
+    if not (fits(board, one) and fits(board, other)):
+        return [WRONG_LENGTH]
+    return [len(one)] + [max(first, second) for first, second in zip(one, other)]

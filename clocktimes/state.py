@@ -39,6 +39,10 @@ def has_path(board, number):
     return 0 <= number < len(board.paths)
 
 
+def fits(board, times):
+    return len(times) == len(board.chips)
+
+
 def is_margin(number):
     return 0 <= number <= GREATEST_TIME
 

@@ -1,11 +1,11 @@
-"""Points 0 to 7: the calls that change the board, and list, which shows what they did."""
+"""Points 0 to 7 and 19: the calls that change the board, and list, which shows what they did."""
 
 import unittest
 
-from helper import GREATEST_INT, LEAST_INT
-from helper import away, bound, chip, clear, delay, last, list_all, margins, path, run
+from helper import GREATEST_INT, LEAST_INT, TOP
+from helper import away, bound, chip, clear, delay, drawn_boards, early, feasible, last, late, list_all, margins, path
+from helper import run, shift
 
-TOP = 100000000
 FULL_CHIPS = [chip(-k, k) for k in range(16)]
 FULL_PATHS = [path(k % 16, (k + 1) % 16, k, 2 * k) for k in range(48)]
 # Two chips and two paths, with margins: nothing in it is alike, so that a change anywhere is seen in the list.
@@ -240,6 +240,60 @@ class Clear(ChangeCase):
     def test_numbers_count_from_zero_again(self):
         self.assertEqual(run(*SMALL, clear(), path(0, 0, 0, 0), chip(1, 2), path(0, 0, 3, 4), list_all())[-4:],
                          [[-1], [0], [0], [0, 0, 1, 1, 2, 1, 0, 0, 3, 4]])
+
+
+class Shift(ChangeCase):
+    def test_no_chips(self):
+        for c in (0, 1, -1, TOP, 2 * TOP + 1, LEAST_INT, GREATEST_INT):
+            self.taken([], shift(c), [0], [0, 0, 0, 0])
+            self.taken([margins(3, 4)], shift(c), [0], [3, 4, 0, 0])
+
+    def test_up_and_down(self):
+        self.taken(SMALL, shift(10), [0], [3, 4, 2, 5, 16, 17, 18] + SMALL_LISTED[7:])
+        self.taken(SMALL, shift(-10), [0], [3, 4, 2, -15, -4, -3, -2] + SMALL_LISTED[7:])
+        self.taken(SMALL, shift(0), [0], SMALL_LISTED)
+
+    def test_twice(self):
+        self.taken(SMALL + [shift(10)], shift(-10), [0], SMALL_LISTED)
+        self.taken(SMALL + [shift(10)], shift(5), [0], [3, 4, 2, 10, 21, 22, 23] + SMALL_LISTED[7:])
+
+    def test_just_inside_and_just_outside(self):
+        # The highest hi is 8 and the lowest lo is -5, in different chips.
+        self.taken(SMALL, shift(TOP - 8), [0], [3, 4, 2, TOP - 13, TOP - 2, TOP - 1, TOP] + SMALL_LISTED[7:])
+        self.refused(SMALL, shift(TOP - 7), -2)
+        self.taken(SMALL, shift(5 - TOP), [0], [3, 4, 2, -TOP, 11 - TOP, 12 - TOP, 13 - TOP] + SMALL_LISTED[7:])
+        self.refused(SMALL, shift(4 - TOP), -2)
+
+    def test_one_chip_outside_is_enough(self):
+        for place in range(16):
+            high = [chip(0, 0)] * place + [chip(0, TOP)] + [chip(0, 0)] * (15 - place)
+            self.refused(high, shift(1), -2)
+            low = [chip(0, 0)] * place + [chip(-TOP, 0)] + [chip(0, 0)] * (15 - place)
+            self.refused(low, shift(-1), -2)
+
+    def test_from_one_end_to_the_other(self):
+        self.taken([chip(-TOP, -TOP)], shift(2 * TOP), [0], [0, 0, 1, TOP, TOP, 0])
+        self.refused([chip(-TOP, -TOP)], shift(2 * TOP + 1), -2)
+        self.taken([chip(TOP, TOP)], shift(-2 * TOP), [0], [0, 0, 1, -TOP, -TOP, 0])
+        self.refused([chip(TOP, TOP)], shift(-2 * TOP - 1), -2)
+        self.taken([chip(-TOP, TOP)], shift(0), [0], [0, 0, 1, -TOP, TOP, 0])
+
+    def test_far_outside(self):
+        for c in (LEAST_INT, GREATEST_INT, -2 * TOP - 1, 2 * TOP + 1):
+            self.refused(SMALL, shift(c), -2)
+
+    def test_early_and_late_go_with_it(self):
+        for plain, period in drawn_boards(60, 40):
+            for c in (7, -1000, 90000000):
+                told = plain.ask(early(period), late(period), shift(c), early(period), late(period))
+                for before, behind in ((told[0], told[3]), (told[1], told[4])):
+                    moved = before if before == [-8] else before[:1] + [time + c for time in before[1:]]
+                    self.assertEqual(behind, moved, (plain, period, c))
+
+    def test_what_was_feasible_stays_so(self):
+        before = [chip(0, 5), chip(0, 5), path(0, 1, 0, 9)]
+        self.assertEqual(run(*before, feasible(9), shift(-3), feasible(9), feasible(8), shift(3), feasible(8))[3:],
+                         [[1], [0], [1], [0], [0], [0]])
 
 
 class Listing(ChangeCase):

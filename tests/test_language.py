@@ -112,6 +112,24 @@ class Code(unittest.TestCase):
             for part in node.body:
                 self.assertIsInstance(part, ast.FunctionDef, (name, node.name))
 
+    def test_a_call_is_all_that_stands_by_itself(self):
+        for name, tree in trees().items():
+            for node in ast.walk(tree):
+                if isinstance(node, ast.Expr) and node is not tree.body[0]:
+                    self.assertIsInstance(node.value, ast.Call, (name, node.lineno))
+
+    def test_is_stands_beside_none_true_and_false_alone(self):
+        for name, node in nodes_of(ast.Compare):
+            if any(isinstance(sign, (ast.Is, ast.IsNot)) for sign in node.ops):
+                sides = [node.left] + node.comparators
+                self.assertTrue(any(isinstance(side, ast.Constant) and side.value in (None, True, False)
+                                    for side in sides), (name, node.lineno))
+
+    def test_walks_are_not_kept(self):
+        for name, node in nodes_of((ast.Assign, ast.Return)):
+            if isinstance(node.value, ast.Call) and isinstance(node.value.func, ast.Name):
+                self.assertNotIn(node.value.func.id, ("zip", "enumerate", "reversed", "range"), (name, node.lineno))
+
     def test_statements_are_plain(self):
         for name, node in nodes_of((ast.For, ast.While)):
             self.assertEqual(node.orelse, [], (name, node.lineno))
@@ -152,6 +170,25 @@ class Names(unittest.TestCase):
             self.assertRegex(own, r"^([A-Za-z][A-Za-z0-9_]*|__init__)$", (name, node.lineno))
             if not isinstance(node, ast.Name):
                 self.assertNotIn(own, dir(builtins), (name, node.lineno))
+
+    def test_no_local_is_called_like_an_import_or_a_class_of_its_file(self):
+        for name, tree in trees().items():
+            taken = {node.name for node in tree.body if isinstance(node, ast.ClassDef)}
+            for node in tree.body:
+                taken |= {alias.name for alias in node.names} if isinstance(node, ast.ImportFrom) else set()
+            for node in ast.walk(tree):
+                if isinstance(node, ast.arg):
+                    self.assertNotIn(node.arg, taken, (name, node.lineno))
+                if isinstance(node, ast.Name) and isinstance(node.ctx, ast.Store):
+                    self.assertNotIn(node.id, taken, (name, node.lineno))
+
+    def test_no_name_is_a_method_and_a_value(self):
+        methods, values = set(), set()
+        for name, node in nodes_of(ast.ClassDef):
+            methods |= {part.name for part in node.body}
+        for name, node in nodes_of(ast.Attribute):
+            values |= {node.attr} if isinstance(node.ctx, ast.Store) else set()
+        self.assertEqual(methods & values, set())
 
     def test_methods_are_own_ones_or_known_ones(self):
         own = {node.name for name, node in nodes_of(ast.FunctionDef)}

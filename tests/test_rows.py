@@ -1,13 +1,11 @@
-"""Points 8 and 9: check and slacks, which take a period and a row of times."""
+"""Points 8, 9, 17 and 18: check and slacks, which take a period and a row of times; sooner and later, of two rows."""
 
 import itertools
 import unittest
 
-from helper import GREATEST_INT, LEAST_INT
-from helper import away, bound, check, chip, clear, delay, last, list_all, margins, path, run, slacks
+from helper import GREATEST_INT, LEAST_INT, LONGEST, TOP
+from helper import away, bound, check, chip, clear, delay, last, later, list_all, margins, path, run, slacks, sooner
 
-TOP = 100000000
-MOST = 2000000000
 # With the times 0 and 10 and the period 25, each path has exactly nothing left in both of its rules:
 # path 0: 0 + 30 + 5 = 10 + 25 and 0 + 17 = 10 + 7; path 1: 10 + 10 + 5 = 0 + 25 and 10 + 0 = 0 + 7 + 3.
 EDGE = [margins(5, 7), chip(0, 0), chip(10, 10), path(0, 1, 17, 30), path(1, 0, 0, 10)]
@@ -32,14 +30,14 @@ class RowCase(unittest.TestCase):
 
 class Refusals(RowCase):
     def test_periods_at_both_ends(self):
-        for period in (0, MOST):
+        for period in (0, LONGEST):
             self.checked([], period, [], [])
             self.left([], period, [], [])
             self.checked([chip(0, 0)], period, [0], [])
             self.left([chip(0, 0)], period, [0], [])
 
     def test_periods_outside(self):
-        for period in (-1, MOST + 1, LEAST_INT, GREATEST_INT):
+        for period in (-1, LONGEST + 1, LEAST_INT, GREATEST_INT):
             self.both_refuse([], period, [], -2)
             self.both_refuse(EDGE, period, [0, 10], -2)
 
@@ -59,7 +57,7 @@ class Refusals(RowCase):
         self.checked(before, 25, [0], [])
 
     def test_the_period_is_looked_at_before_the_row(self):
-        for period in (-1, MOST + 1):
+        for period in (-1, LONGEST + 1):
             for times in ([], [0], [0, 10, 0]):
                 self.both_refuse(EDGE, period, times, -2)
         self.both_refuse([], -1, [0], -2)
@@ -149,8 +147,8 @@ class Check(RowCase):
 
     def test_the_greatest_and_least_numbers(self):
         before = [margins(TOP, TOP), chip(-TOP, TOP), chip(-TOP, TOP), path(0, 1, 0, TOP), path(1, 0, 0, TOP)]
-        self.checked(before, MOST, [GREATEST_INT, LEAST_INT], [[0, 0], [1, 1], [2, 0], [3, 1]])
-        self.checked(before, MOST, [-TOP, TOP], [[3, 0]])
+        self.checked(before, LONGEST, [GREATEST_INT, LEAST_INT], [[0, 0], [1, 1], [2, 0], [3, 1]])
+        self.checked(before, LONGEST, [-TOP, TOP], [[3, 0]])
 
 
 class Slacks(RowCase):
@@ -179,7 +177,7 @@ class Slacks(RowCase):
     def test_the_period_is_of_the_setup_rule_alone(self):
         before = [chip(0, 0), path(0, 0, 10, 100)]
         self.left(before, 0, [0], [-100, 10])
-        self.left(before, MOST, [0], [MOST - 100, 10])
+        self.left(before, LONGEST, [0], [LONGEST - 100, 10])
 
     def test_a_path_from_a_chip_to_itself(self):
         for time in (-7, 0, 7):
@@ -207,7 +205,7 @@ class Slacks(RowCase):
 
     def test_the_greatest_and_least_numbers(self):
         before = [margins(TOP, TOP), chip(0, 0), chip(0, 0), path(0, 1, 0, TOP)]
-        self.left(before, MOST, [LEAST_INT, GREATEST_INT], [6094967295, -4394967295])
+        self.left(before, LONGEST, [LEAST_INT, GREATEST_INT], [6094967295, -4394967295])
         self.left(before, 0, [GREATEST_INT, LEAST_INT], [-4494967295, 4194967295])
 
     def test_a_full_board(self):
@@ -237,6 +235,72 @@ class Together(RowCase):
         for place, number in enumerate(told[-2][1:]):
             rules += [2 + place % 2, place // 2] if number < 0 else []
         self.assertEqual(told[-1], [len(rules) // 2] + rules, (period, times))
+
+
+class TwoRows(RowCase):
+    def compared(self, before, one, other, lesser, greater):
+        count = len(lesser)
+        self.assertEqual(run(*before, sooner(one, other), later(one, other))[-2:],
+                         [[count] + lesser, [count] + greater])
+
+    def both_rows_refused(self, before, one, other):
+        for call in (sooner, later):
+            told = run(*before, list_all(), call(one, other), list_all())
+            self.assertEqual(told[-2], [-3], (call, one, other))
+            self.assertEqual(told[-1], told[-3])
+
+    def test_no_chips(self):
+        self.compared([], [], [], [], [])
+
+    def test_chip_by_chip(self):
+        before = [chip(0, 0)] * 4
+        self.compared(before, [1, 9, 5, 0], [2, 3, 5, 1], [1, 3, 5, 0], [2, 9, 5, 1])
+        self.compared(before, [2, 3, 5, 1], [1, 9, 5, 0], [1, 3, 5, 0], [2, 9, 5, 1])
+
+    def test_equal_times(self):
+        self.compared([chip(0, 0)] * 3, [4, -4, 0], [4, -4, 0], [4, -4, 0], [4, -4, 0])
+
+    def test_numbers_below_zero(self):
+        before = [chip(0, 0)] * 3
+        self.compared(before, [-1, -5, 3], [-2, 4, -3], [-2, -5, -3], [-1, 4, 3])
+        self.compared([chip(0, 0)], [-8], [-3], [-8], [-3])
+
+    def test_the_bounds_of_chips_do_not_count(self):
+        self.compared([chip(5, 6)], [LEAST_INT], [GREATEST_INT], [LEAST_INT], [GREATEST_INT])
+
+    def test_sixteen_chips(self):
+        one = [k * k for k in range(16)]
+        other = [10 * k - 20 for k in range(16)]
+        self.compared([chip(0, 0)] * 16, one, other, [min(k * k, 10 * k - 20) for k in range(16)],
+                      [max(k * k, 10 * k - 20) for k in range(16)])
+
+    def test_rows_too_short_and_too_long(self):
+        before = [chip(0, 0)] * 2
+        for wrong in ([], [1], [1, 2, 3], [1] * 1000):
+            self.both_rows_refused(before, wrong, [1, 2])
+            self.both_rows_refused(before, [1, 2], wrong)
+            self.both_rows_refused(before, wrong, wrong)
+        self.both_rows_refused([], [1], [])
+        self.both_rows_refused([], [], [1])
+        self.both_rows_refused([chip(0, 0)] * 16, [1] * 16, [1] * 17)
+        self.both_rows_refused([chip(0, 0)] * 16, [1] * 15, [1] * 16)
+
+    def test_as_many_as_chips_not_paths(self):
+        self.both_rows_refused([chip(0, 0), path(0, 0, 0, 0), path(0, 0, 0, 0)], [1, 2], [1, 2])
+
+    def test_what_is_behind_a_refused_call_is_read_rightly(self):
+        self.assertEqual(run(chip(1, 2), sooner([7, 8], [9]), later([], [6, 7, 6]), list_all())[1:],
+                         [[-3], [-3], [0, 0, 1, 1, 2, 0]])
+
+    def test_both_change_nothing(self):
+        told = run(*EDGE, list_all(), sooner([1, 2], [3, 4]), later([1, 2], [3, 4]), list_all())
+        self.assertEqual(told[-1], told[-4])
+
+    def test_of_two_right_rows_both_are_right(self):
+        before = [chip(0, 9), chip(0, 9), path(0, 1, 2, 5)]
+        self.assertEqual(run(*before, check(8, [3, 5]), check(8, [7, 4]), sooner([3, 5], [7, 4]),
+                             later([3, 5], [7, 4]), check(8, [3, 4]), check(8, [7, 5]))[-6:],
+                         [[0], [0], [2, 3, 4], [2, 7, 5], [0], [0]])
 
 
 if __name__ == "__main__":
